@@ -1,0 +1,36 @@
+"""The interface: each name stands in its file, and takes what the document lists by place."""
+
+import importlib
+import inspect
+import unittest
+
+LISTED = {
+    "names": {"is_name": 1, "need_name": 1, "are_pairs": 1, "name_by": 2},
+    "boards": {
+        "is_board": 1, "need_board": 1, "letters_of": 1, "is_letter": 2, "need_letter": 2, "letter_of": 2,
+        "some_of": 2, "is_turn": 2, "need_turn": 2, "all_turns": 1, "is_so": 3, "is_loop": 2, "need_loop": 2,
+        "turn_at": 2, "lean": 1, "are_one": 2,
+    },
+    "wishes": {
+        "is_wish": 1, "need_wish": 1, "is_wish_of": 2, "need_wish_of": 2, "parts_within": 1, "many_parts": 1,
+        "deep_of": 1, "signs_of": 1, "is_look": 1, "renamed": 2,
+    },
+}
+
+
+class Interface(unittest.TestCase):
+    def test_each_function(self):
+        for file, functions in LISTED.items():
+            module = importlib.import_module(f"wishkeep.{file}")
+            for name, many in functions.items():
+                function = getattr(module, name)
+                self.assertEqual(function.__module__, module.__name__, name)
+                parameters = inspect.signature(function).parameters.values()
+                self.assertEqual(len(parameters), many, name)
+                for parameter in parameters:
+                    self.assertEqual(parameter.kind, parameter.POSITIONAL_OR_KEYWORD, name)
+                    self.assertIs(parameter.default, parameter.empty, name)
+
+
+if __name__ == "__main__":
+    unittest.main()

@@ -1,0 +1,1 @@
+"""Wishkeep: machines made from wishes of time."""
