@@ -15,6 +15,13 @@ LISTED = {
         "is_wish": 1, "need_wish": 1, "is_wish_of": 2, "need_wish_of": 2, "parts_within": 1, "many_parts": 1,
         "deep_of": 1, "signs_of": 1, "is_look": 1, "renamed": 2,
     },
+    "tasks": {
+        "is_row": 2, "need_row": 2, "is_task": 1, "need_task": 1, "looks_of": 1, "always_of": 2, "goals_of": 2,
+        "names_of": 1, "renamed_task": 2,
+    },
+    "writing": {"wish_text": 1, "task_text": 1, "letter_text": 2, "turn_text": 2, "loop_text": 2},
+    "reading": {"wish_of": 1, "task_of": 1, "turn_of": 2, "loop_of": 2},
+    "meaning": {"values_along": 3, "holds_always": 3, "holds_again": 3, "rows_failed": 2, "is_kept": 2},
 }
 
 

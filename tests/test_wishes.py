@@ -2,7 +2,7 @@
 
 import unittest
 
-from things import A, B, C, NO, X, YES, Numbers, chain, kinds, left, odd, right, some_wish, wide
+from things import A, B, C, NO, X, YES, Numbers, chain, ends_of, kinds, left, odd, right, some_wish, wide
 from wishkeep.errors import BadName, BadWish
 from wishkeep.wishes import (
     deep_of, is_look, is_wish, is_wish_of, many_parts, need_wish, need_wish_of, parts_within, renamed, signs_of,
@@ -247,13 +247,6 @@ class Renamed(unittest.TestCase):
         wrong += [{"a": "b"}, ("ab",), (("a",),), ("a", "b"), (("a", "b", "c"),), None, "ab", (("a", None),)]
         for pairs in wrong + odd() + kinds():
             self.assertRaises(BadName, renamed, A, pairs)
-
-
-def ends_of(wish):
-    """All parts, as they come to their ends, each as often as it stands."""
-    if wish[0] == "sign":
-        return [wish]
-    return [end for part in wish[1:] for end in ends_of(part)] + [wish]
 
 
 if __name__ == "__main__":

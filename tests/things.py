@@ -1,6 +1,23 @@
 """Things of many kinds, and rows of numbers that are the same each time."""
 
 
+class Alike:
+    """A thing that says that it is like each other one."""
+
+    def __eq__(self, other):
+        return True
+
+
+class Refusing:
+    """A thing that lets nobody compare or measure it."""
+
+    def __eq__(self, other):
+        raise RuntimeError("compared")
+
+    def __len__(self):
+        raise RuntimeError("measured")
+
+
 def nested(many, wrap):
     """As many things within one another."""
     thing = wrap(None)
@@ -37,7 +54,7 @@ def kinds():
     """Things of all kinds, none of which is a text, a number from 0 on or a tuple with anything in it."""
     return [
         None, True, False, -1, -(10 ** 30), [], {}, b"", b"a", b"yes", ["a"], [0], [[], []], ["yes"],
-        {"a": "b"}, {0: 1}, {"a"}, set(), frozenset(), object(), object, len, range(2), iter(()),
+        {"a": "b"}, {0: 1}, {"a"}, set(), frozenset(), object(), object, len, Alike(), Refusing(), range(2), iter(()),
         ["sign", "a"], [("a", "b")], [(), ()], [(0, 0)], [("given", "always", ("yes",))],
     ] + deep_things()
 
@@ -81,6 +98,13 @@ def some_wish(numbers, names, deep):
         return (numbers.one_of(ONE_BEHIND), some_wish(numbers, names, deep - 1))
     word = numbers.one_of(TWO_BEHIND)
     return (word, some_wish(numbers, names, deep - 1), some_wish(numbers, names, deep - 1))
+
+
+def ends_of(wish):
+    """All parts, as they come to their ends, each as often as it stands."""
+    if wish[0] == "sign":
+        return [wish]
+    return [end for part in wish[1:] for end in ends_of(part)] + [wish]
 
 
 def chain(word, many, end=("yes",)):
