@@ -22,6 +22,16 @@ LISTED = {
     "writing": {"wish_text": 1, "task_text": 1, "letter_text": 2, "turn_text": 2, "loop_text": 2},
     "reading": {"wish_of": 1, "task_of": 1, "turn_of": 2, "loop_of": 2},
     "meaning": {"values_along": 3, "holds_always": 3, "holds_again": 3, "rows_failed": 2, "is_kept": 2},
+    "memory": {"first_position": 1, "need_position": 2, "moved": 3, "positions_along": 2, "all_positions": 1},
+    "machines": {
+        "is_machine": 2, "need_machine": 2, "turns_of": 2, "room_behind": 2, "loop_by": 2, "goes": 2, "rooms_of": 1,
+    },
+    "plans": {
+        "is_plan": 2, "need_plan": 2, "turns_against": 2, "loop_against": 2, "goes_by": 2, "plan_rooms": 1,
+        "loop_of_both": 2,
+    },
+    "alike": {"alike": 2, "merged": 1},
+    "arena": {"is_arena": 1, "need_arena": 1, "arena_of": 1},
 }
 
 

@@ -144,6 +144,56 @@ def wide(parts):
     return waiting[0]
 
 
+def some_task(numbers, board, many, deep):
+    """A task of so many rows, whose wishes are at most so deep."""
+    names = board[0] + board[1]
+    return (board, tuple(
+        (numbers.one_of(("given", "wanted")), numbers.one_of(("always", "again")), some_wish(numbers, names, deep))
+        for _ in range(many)
+    ))
+
+
+def some_machine(numbers, board, many):
+    """A machine of so many rooms."""
+    comes, answers = [2 ** len(names) for names in board]
+    return tuple(
+        tuple((numbers.below(answers), numbers.below(many)) for _ in range(comes)) for _ in range(many)
+    )
+
+
+def some_plan(numbers, board, many):
+    """A plan of so many rooms."""
+    comes, answers = [2 ** len(names) for names in board]
+    return tuple(
+        (numbers.below(comes), tuple(numbers.below(many) for _ in range(answers))) for _ in range(many)
+    )
+
+
+def some_letters(numbers, many, length):
+    """A row of letters, of which there are so many."""
+    return tuple(numbers.below(many) for _ in range(length))
+
+
+def some_goals(numbers, many, often):
+    """Rising numbers of goals, of which there are so many, each of them so often of eight times."""
+    return tuple(goal for goal in range(many) if numbers.below(8) < often)
+
+
+def some_arena(numbers, sizes, letters, often):
+    """An arena of so many places, given and wanted goals, letters on either side, goals met so often of eight times."""
+    many, given, wanted = sizes
+    return (tuple(
+        tuple(
+            tuple(
+                (numbers.below(many), some_goals(numbers, given, often[0]), some_goals(numbers, wanted, often[1]))
+                for _ in range(1 + numbers.below(letters[1]))
+            )
+            for _ in range(1 + numbers.below(letters[0]))
+        )
+        for _ in range(many)
+    ), given, wanted)
+
+
 A = ("sign", "a")
 B = ("sign", "b")
 C = ("sign", "c")

@@ -1,5 +1,6 @@
 """Boards, and the letters, turns and loops of these."""
 
+from wishkeep.counts import is_below, is_count
 from wishkeep.errors import BadBoard, BadLetter, BadLoop, BadName, BadNumber, BadTurn
 from wishkeep.names import all_unlike, is_name
 
@@ -25,11 +26,6 @@ def need_board(thing):
         raise BadBoard("no board")
 
 
-def is_count(thing):
-    """Whether a thing is a whole number from 0 on; True and False are none."""
-    return isinstance(thing, int) and not isinstance(thing, bool) and thing >= 0
-
-
 def letters_of(names):
     """How many letters some names have."""
     return 1 << len(names)
@@ -37,7 +33,7 @@ def letters_of(names):
 
 def is_letter(names, thing):
     """Whether a thing is a letter of some names."""
-    return is_count(thing) and thing < letters_of(names)
+    return is_below(letters_of(names), thing)
 
 
 def need_letter(names, thing):
