@@ -32,6 +32,10 @@ LISTED = {
     },
     "alike": {"alike": 2, "merged": 1},
     "arena": {"is_arena": 1, "need_arena": 1, "arena_of": 1},
+    "games": {"ours": 1, "others": 1, "held": 1, "lost": 1},
+    "made": {"machine_of": 2, "plan_of": 2},
+    "keeper": {"told": 1, "has_it": 1, "machine_for": 1, "plan_for": 1},
+    "changes": {"together": 2, "without": 2},
 }
 
 

@@ -3,7 +3,7 @@
 import unittest
 from itertools import product
 
-from things import Numbers, odd, some_letters, some_machine
+from things import Numbers, odd, some_letters, some_machine, wrong_cycles, wrong_numbers, wrong_runs
 from wishkeep.boards import is_loop, lean, turn_at
 from wishkeep.errors import BadMachine, BadRun, TooGreat
 from wishkeep.machines import goes, is_machine, loop_by, need_machine, room_behind, rooms_of, turns_of
@@ -59,7 +59,7 @@ class Machines(unittest.TestCase):
 
     def test_rooms_that_are_there(self):
         self.good(BOARD, (((0, 1), (0, 2)), ((0, 0), (0, 1)), ((0, 2), (0, 2))))
-        for room in (3, 4, -1, 10 ** 30, True, False, None, "0", (0,), [0], 0.0):
+        for room in wrong_numbers(3):
             for at in range(3):
                 rooms = [((0, 1), (0, 2)), ((0, 0), (0, 1)), ((0, 2), (0, 2))]
                 rooms[at] = (rooms[at][0], (0, room))
@@ -70,7 +70,7 @@ class Machines(unittest.TestCase):
         for board, answers, pairs in ((BOARD, 2, 2), (WIDE, 8, 8), (NONE_COMES, 4, 1), (NONE_ANSWERED, 1, 4)):
             for letter in range(answers):
                 self.good(board, (((0, 0),) * (pairs - 1) + ((letter, 0),),))
-            for letter in (answers, answers + 1, -1, 10 ** 30, True, False, None, "0", (0,), 0.0):
+            for letter in wrong_numbers(answers):
                 self.bad(board, (((0, 0),) * (pairs - 1) + ((letter, 0),),))
 
     def test_lists_for_tuples_and_other_forms(self):
@@ -128,24 +128,17 @@ class Runs(unittest.TestCase):
         self.assertRaises(BadRun, turns_of, SECOND, run + (0,))
         self.assertRaises(BadRun, room_behind, SECOND, run + (0,))
 
-    def bad(self, machine, thing):
-        self.assertRaises(BadRun, turns_of, machine, thing)
-        self.assertRaises(BadRun, room_behind, machine, thing)
-
-    def test_letters_that_are_none(self):
-        for letter in (2, -1, True, False, None, "0", (0,), [0], 0.0, 10 ** 30):
-            self.bad(SECOND, (letter,))
-            self.bad(SECOND, (0, 1, letter))
-        self.bad((((0, 0),),), (1,))
+    def test_letters_of_the_machine(self):
         self.assertEqual(turns_of((((0, 0),) * 8,), (7,)), ((7, 0),))
-        self.bad((((0, 0),) * 8,), (8,))
+        for many in (1, 2, 4, 8):
+            for letter in wrong_numbers(many):
+                self.assertRaises(BadRun, turns_of, (((0, 0),) * many,), (0, letter))
+                self.assertRaises(BadRun, room_behind, (((0, 0),) * many,), (0, letter))
 
-    def test_things_of_other_kinds(self):
-        for thing in odd() + [[0, 1], "01", b"01", {0: 1}]:
-            self.bad(SECOND, thing)
-            self.bad(SECOND, (thing,))
-        self.bad(SECOND, 0)
-        self.bad(SECOND, 1)
+    def test_no_runs(self):
+        for thing in wrong_runs():
+            self.assertRaises(BadRun, turns_of, SECOND, thing)
+            self.assertRaises(BadRun, room_behind, SECOND, thing)
 
 
 class Cycles(unittest.TestCase):
@@ -201,20 +194,11 @@ class Cycles(unittest.TestCase):
 
     def test_no_cycles(self):
         great = ring((0,) * 300 + (1,))
-        wrong = [((), ()), ((), [0]), [(), (0,)], ([], (0,)), ((0,),), ((), (0,), (0,)), (0, 0), ((), 0), (), "| 0"]
-        wrong += [((), (letter,)) for letter in (2, -1, True, None, "0", (0,))]
-        wrong += [((letter,), (0,)) for letter in (2, -1, False, None, "0", (0,))]
-        wrong += [((0,) * 201, (0,)), ((), (0,) * 201), ((), (0,) * 200 + (5,)), ((2,), ())]
-        for thing in wrong + odd():
+        for thing in wrong_cycles():
             self.assertRaises(BadRun, loop_by, SECOND, thing)
             # BadRun is told ahead of TooGreat.
             self.assertRaises(BadRun, loop_by, great, thing)
         self.assertRaises(TooGreat, loop_by, great, ((), (0,)))
-        for thing in odd():
-            self.assertRaises(BadRun, loop_by, SECOND, ((), thing))
-            self.assertRaises(BadRun, loop_by, SECOND, ((), (thing,)))
-            if not isinstance(thing, tuple) or len(thing) > 0:
-                self.assertRaises(BadRun, loop_by, SECOND, (thing, (0,)))
 
     def test_by_going_along(self):
         numbers = Numbers(31)

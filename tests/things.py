@@ -68,6 +68,26 @@ def odd():
     ]
 
 
+def wrong_numbers(many):
+    """Things that are no whole numbers from 0 on, below another one."""
+    return [many, many + 1, -1, 10 ** 30, True, False, None, "0", (0,), [0], 0.0]
+
+
+def wrong_runs():
+    """Things that are no runs of two letters."""
+    wrong = [(0, 1, letter) for letter in wrong_numbers(2)] + [(letter,) for letter in wrong_numbers(2)]
+    return wrong + odd() + [(thing,) for thing in odd()] + [[0, 1], "01", b"01", {0: 1}, 0, 1, (0,) * 10001]
+
+
+def wrong_cycles():
+    """Things that are no cycles of two letters."""
+    wrong = [((), ()), ((), [0]), [(), (0,)], ([], (0,)), ((0,),), ((), (0,), (0,)), (0, 0), ((), 0), (), "| 0"]
+    wrong += [((), (letter,)) for letter in wrong_numbers(2)] + [((letter,), (0,)) for letter in wrong_numbers(2)]
+    wrong += [((0,) * 201, (0,)), ((), (0,) * 201), ((), (0,) * 200 + (5,)), ((0,) * 200, ()), ((2,), ())]
+    wrong += [((), (thing,)) for thing in odd()] + [((thing,), (0,)) for thing in odd()]
+    return wrong + [((), thing) for thing in odd()] + [(thing, (0,)) for thing in odd()] + odd()
+
+
 class Numbers:
     """Numbers that look like chance and are the same each time."""
 

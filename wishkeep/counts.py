@@ -25,9 +25,16 @@ def are_rising(many, thing):
     return all(one < other for one, other in zip(thing, thing[1:]))
 
 
-def number_of(thing, things, numbers):
-    """The number of one of the things; a new one is put behind them."""
-    if thing not in numbers:
-        numbers[thing] = len(things)
-        things.append(thing)
-    return numbers[thing]
+class Numbered:
+    """Things that are numbered as they come, from 0 on."""
+
+    def __init__(self, first):
+        self.things = [first]
+        self.numbers = {first: 0}
+
+    def number_of(self, thing):
+        """The number of a thing; a new one is put behind the others."""
+        if thing not in self.numbers:
+            self.numbers[thing] = len(self.things)
+            self.things.append(thing)
+        return self.numbers[thing]

@@ -1,7 +1,7 @@
 """Positions: what is kept of the turns that are gone, and what another turn makes of it."""
 
 from wishkeep.boards import all_turns, has_bit, place_of
-from wishkeep.counts import number_of
+from wishkeep.counts import Numbered
 from wishkeep.errors import BadPosition
 from wishkeep.tasks import SIDES, always_of, goals_of, looks_of
 from wishkeep.wishes import gather_parts, inner_of, is_look
@@ -130,14 +130,12 @@ def positions_and_moves(task):
     """All positions, as they come, and for each the moves of all turns, which lead to numbers of positions."""
     mover = Mover(task)
     turns = all_turns(task[0])
-    positions = []
-    numbers = {}
-    number_of(first_position(task), positions, numbers)
+    positions = Numbered(first_position(task))
     moves = []
-    while len(moves) < len(positions):
-        found = mover.moves_from(positions[len(moves)], turns)
-        moves.append([(number_of(behind, positions, numbers), met, metwanted) for behind, met, metwanted in found])
-    return (positions, moves)
+    while len(moves) < len(positions.things):
+        found = mover.moves_from(positions.things[len(moves)], turns)
+        moves.append([(positions.number_of(behind), met, metwanted) for behind, met, metwanted in found])
+    return (positions.things, moves)
 
 
 def all_positions(task):

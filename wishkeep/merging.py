@@ -1,14 +1,13 @@
 """Rooms that are alike told as one, of machines and of plans alike."""
 
-from wishkeep.counts import number_of
+from wishkeep.counts import Numbered
 
 
 def blocks_by(marks):
     """Rooms of one mark laid together: the block of each room, and the rooms of each block."""
-    found = []
-    numbers = {}
-    block_of = [number_of(mark, found, numbers) for mark in marks]
-    blocks = [{} for _ in found]
+    found = Numbered(marks[0])
+    block_of = [found.number_of(mark) for mark in marks]
+    blocks = [{} for _ in found.things]
     for room, block in enumerate(block_of):
         blocks[block][room] = True
     return (block_of, blocks)

@@ -4,7 +4,7 @@ A step is a function of rooms, a room's number and a letter: it tells the turn t
 """
 
 from wishkeep.boards import MOST_TURNS, lean
-from wishkeep.counts import are_below, number_of
+from wishkeep.counts import Numbered, are_below
 from wishkeep.errors import BadRun, TooGreat
 
 MOST_RUN = 10000
@@ -78,13 +78,11 @@ def goes_along(step, rooms, side, loop):
 
 def come_to(leads):
     """All rooms come to from room 0, in the order of the least rows of letters; leads are each one's next rooms."""
-    found = []
-    numbers = {}
-    number_of(0, found, numbers)
+    found = Numbered(0)
     at = 0
-    while at < len(found):
-        behind = leads[found[at]]
+    while at < len(found.things):
+        behind = leads[found.things[at]]
         for room in behind:
-            number_of(room, found, numbers)
+            found.number_of(room)
         at += 1
-    return found
+    return found.things
