@@ -31,7 +31,8 @@ def run_to(found, at):
 
 def alike(machine, other):
     """The least run of letters that come whose last one two machines answer otherwise; None without any."""
-    # Rooms that earlier pairs join needn't be looked at: where they answered a run otherwise, one of these pairs would.
+    # Rooms that are joined already needn't be looked at: where they answer a run otherwise, so does one of the pairs
+    # that joined them, and pairs are found in the order of the runs that lead to them.
     many = len(machine)
     heads = list(range(many + len(other)))
     join(heads, 0, many)

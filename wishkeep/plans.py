@@ -77,9 +77,9 @@ def likely_round(turns):
 
 def loop_of_both(machine, plan):
     """The lean loop that comes where the machine answers the plan."""
-    # The rooms of both together may be far too many to go through. But of all loops that are small enough just one can
-    # begin so, as two rounds that go on alike for as long as both together go on alike for ever; and whether that one
-    # comes is seen of the machine and of the plan, of each by itself.
+    # The rooms of both together may be far too many to go through. But loops that are small enough are one if they
+    # begin with the same turns, three times as many as a STEM or ROUND has at most: so just one can be it, and whether
+    # it comes is seen of the machine and of the plan, of each by itself.
     turns = first_turns(machine, plan, 3 * MOST_TURNS)
     loop = lean((turns[:MOST_TURNS], likely_round(turns[MOST_TURNS:])))
     if not goes(machine, loop) or not goes_by(plan, loop):
