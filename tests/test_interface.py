@@ -36,21 +36,47 @@ LISTED = {
     "made": {"machine_of": 2, "plan_of": 2},
     "keeper": {"told": 1, "has_it": 1, "machine_for": 1, "plan_for": 1},
     "changes": {"together": 2, "without": 2},
+    "parts": {"parts_of": 1, "shortest_way": 3},
+    "papers": {"pairs_of": 2, "pairs_by": 2, "machine_papers": 2, "plan_papers": 2},
+    "checker": {"shows_machine": 3, "shows_plan": 3},
+}
+# Of each class what it is made of, then its methods.
+CLASSES = {
+    "plays": {
+        "Play": (1, {
+            "side": 0, "letter_next": 0, "turn": 1, "turns": 0, "position_now": 0, "room_now": 0, "met": 0, "copied": 0,
+        }),
+    },
 }
 
 
 class Interface(unittest.TestCase):
+    def takes(self, function, many):
+        """Checks that a function takes so many things by place, no more and no less."""
+        parameters = inspect.signature(function).parameters.values()
+        self.assertEqual(len(parameters), many, function)
+        for parameter in parameters:
+            self.assertEqual(parameter.kind, parameter.POSITIONAL_OR_KEYWORD, function)
+            self.assertIs(parameter.default, parameter.empty, function)
+
     def test_each_function(self):
         for file, functions in LISTED.items():
             module = importlib.import_module(f"wishkeep.{file}")
             for name, many in functions.items():
                 function = getattr(module, name)
                 self.assertEqual(function.__module__, module.__name__, name)
-                parameters = inspect.signature(function).parameters.values()
-                self.assertEqual(len(parameters), many, name)
-                for parameter in parameters:
-                    self.assertEqual(parameter.kind, parameter.POSITIONAL_OR_KEYWORD, name)
-                    self.assertIs(parameter.default, parameter.empty, name)
+                self.takes(function, many)
+
+    def test_each_class(self):
+        for file, classes in CLASSES.items():
+            module = importlib.import_module(f"wishkeep.{file}")
+            for name, (many, methods) in classes.items():
+                found = getattr(module, name)
+                self.assertEqual(found.__module__, module.__name__, name)
+                self.takes(found, many)
+                for method, takes in methods.items():
+                    self.assertIn(method, vars(found), name)
+                    self.takes(vars(found)[method], 1 + takes)
 
 
 if __name__ == "__main__":

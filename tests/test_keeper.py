@@ -3,6 +3,7 @@
 import unittest
 from itertools import product
 
+from plain import Moves, steps_of_machine, steps_of_plan
 from test_games import plainly_ours
 from things import A, NO, X, YES, Numbers, chain, odd, some_letters, some_task
 from wishkeep.alike import alike, merged
@@ -12,7 +13,6 @@ from wishkeep.errors import BadTask, NoMachine, NoPlan, TooGreat, WishError
 from wishkeep.keeper import has_it, machine_for, plan_for, told
 from wishkeep.machines import is_machine, loop_by, rooms_of
 from wishkeep.meaning import is_kept
-from wishkeep.memory import first_position, moved
 from wishkeep.plans import is_plan, loop_against, plan_rooms
 from wishkeep.reading import task_of
 from wishkeep.tasks import goals_of
@@ -26,28 +26,13 @@ def task_by(*rows):
     return task_of("\n".join(("comes a", "answers x") + rows))
 
 
-def steps_of_machine(machine, room):
-    """The turns from a room of a machine, and the rooms behind them."""
-    return [((came, answered), behind) for came, (answered, behind) in enumerate(machine[room])]
-
-
-def steps_of_plan(plan, room):
-    """The turns from a room of a plan, and the rooms behind them."""
-    came, rooms = plan[room]
-    return [((came, answered), behind) for answered, behind in enumerate(rooms)]
-
-
 def moves_of(task, steps, rooms):
     """All moves of a room and a position: from, to, the given and the wanted goals that are met."""
-    pairs = [(0, first_position(task))]
-    moves = []
-    for room, position in pairs:
-        for turn, behind in steps(rooms, room):
-            after, met, other = moved(task, position, turn)
-            if (behind, after) not in pairs:
-                pairs.append((behind, after))
-            moves.append((pairs.index((room, position)), pairs.index((behind, after)), met, other))
-    return moves
+    moves = Moves(task, steps, rooms)
+    numbers = {pair: number for number, pair in enumerate(moves.pairs())}
+    return [
+        (numbers[pair], numbers[behind], met, other) for pair in numbers for behind, met, other in moves.of(pair)
+    ]
 
 
 def rounds_of(moves):

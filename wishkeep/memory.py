@@ -17,12 +17,17 @@ def first_position(task):
     return ((False,) * len(looks_of(task)), True, True)
 
 
+def is_position(many, thing):
+    """Whether a thing is a position of a task that has so many looks."""
+    if not isinstance(thing, tuple) or len(thing) != 3 or not isinstance(thing[0], tuple):
+        return False
+    memory, given, wanted = thing
+    return len(memory) == many and all(is_truth(truth) for truth in memory + (given, wanted))
+
+
 def need_position(task, thing):
     """Refuses what is no position of a task."""
-    if not isinstance(thing, tuple) or len(thing) != 3 or not isinstance(thing[0], tuple):
-        raise BadPosition("no position")
-    memory, given, wanted = thing
-    if len(memory) != len(looks_of(task)) or not all(is_truth(truth) for truth in memory + (given, wanted)):
+    if not is_position(len(looks_of(task)), thing):
         raise BadPosition("no position of this task")
 
 
