@@ -31,6 +31,8 @@ NO_WORDS = set(
     "type typing typing_extensions enum Enum IntEnum StrEnum Flag IntFlag Generic Protocol ABC ABCMeta namedtuple "
     "NamedTuple TypedDict TYPE_CHECKING abstractmethod".split()
 )
+# What may be imported from elsewhere.
+LIBRARY = {"itertools": ("combinations",)}
 ALLOWED = (
     ast.Module, ast.FunctionDef, ast.ClassDef, ast.arguments, ast.arg, ast.Assign, ast.AugAssign, ast.If, ast.While,
     ast.For, ast.Return, ast.Break, ast.Continue, ast.Pass, ast.Raise, ast.Assert, ast.Delete, ast.Expr, ast.Import,
@@ -105,6 +107,7 @@ class Files(unittest.TestCase):
 class Imports(unittest.TestCase):
     def test_each_from_the_very_file(self):
         defined = {f"wishkeep.{path.stem}": top_level(tree) for path, tree in TREES.items()}
+        defined.update(LIBRARY)
         self.assertEqual(nodes(ast.Import), [])
         for name, node in nodes(ast.ImportFrom):
             self.assertEqual(node.level, 0, name)
@@ -114,7 +117,7 @@ class Imports(unittest.TestCase):
 
     def test_no_two_from_each_other(self):
         needs = {
-            path.stem: {node.module.split(".")[1] for node in tree.body if isinstance(node, ast.ImportFrom)}
+            path.stem: {node.module.split(".")[-1] for node in tree.body if isinstance(node, ast.ImportFrom)}
             for path, tree in TREES.items()
         }
         while needs:

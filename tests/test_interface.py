@@ -39,6 +39,13 @@ LISTED = {
     "parts": {"parts_of": 1, "shortest_way": 3},
     "papers": {"pairs_of": 2, "pairs_by": 2, "machine_papers": 2, "plan_papers": 2},
     "checker": {"shows_machine": 3, "shows_plan": 3},
+    "keeping": {"keeps": 2, "breaks": 2, "breaking": 2, "saving": 2},
+    "fewest": {"fewest": 2},
+    "cores": {"core": 1},
+    "noting": {
+        "machine_text": 1, "plan_text": 1, "papers_text": 1, "plan_papers_text": 1, "read_machine": 2, "read_plan": 2,
+        "read_papers": 1, "read_plan_papers": 1,
+    },
 }
 # Of each class what it is made of, then its methods.
 CLASSES = {
@@ -47,6 +54,7 @@ CLASSES = {
             "side": 0, "letter_next": 0, "turn": 1, "turns": 0, "position_now": 0, "room_now": 0, "met": 0, "copied": 0,
         }),
     },
+    "desk": {"Desk": (1, {"say": 1})},
 }
 
 

@@ -66,7 +66,7 @@ def plan_walker(task, plan):
 def pairs_and_moves(walker):
     """
     All pairs come to, as they come; and for each its moves, by letters rising: the letter, the number of the pair
-    behind, the given and the wanted goals that are met.
+    behind, the given and the wanted goals that are met. A walker has a first pair, and tells the moves from each.
     """
     pairs = Numbered(walker.first)
     moves = []

@@ -1,8 +1,7 @@
 """Papers of machines that keep a task, and of plans by which every machine breaks it."""
 
 from wishkeep.pairs import machine_walker, pairs_and_moves, plan_walker
-from wishkeep.parts import parts_of
-from wishkeep.rounds import GIVEN, WANTED, first_unmet, graph_of, moves_within, moves_without
+from wishkeep.rounds import GIVEN, WANTED, first_unmet, moves_without, parts_and_moves
 from wishkeep.tasks import goals_of
 
 
@@ -27,8 +26,8 @@ def unmet_along(moves, side, many):
     each move the number falls, or both stay. None if some part has no such goal.
     """
     entries = [None] * len(moves)
-    for number, part in enumerate(parts_of(graph_of(moves))):
-        goal = first_unmet(moves_within(moves, part), side, many)
+    for number, (part, within) in enumerate(parts_and_moves(moves)):
+        goal = first_unmet(within, side, many)
         if goal is None:
             return None
         for at in part:
@@ -39,8 +38,8 @@ def unmet_along(moves, side, many):
 def falling_along(moves):
     """For each number a count that falls along each move; None if one can go round."""
     entries = [None] * len(moves)
-    for count, part in enumerate(parts_of(graph_of(moves))):
-        if len(moves_within(moves, part)) > 0:
+    for count, (part, within) in enumerate(parts_and_moves(moves)):
+        if len(within) > 0:
             return None
         entries[part[0]] = (count,)
     return entries
