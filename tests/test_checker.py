@@ -7,11 +7,10 @@ from plain import (
     wide_plan_papers,
 )
 from test_keeper import SMALL, task_by
-from test_papers import COPY, LATE, NOTHING, ring_machine, ring_plan, some_tasks
-from things import A, X, YES, Numbers, chain, odd, some_machine, some_plan
+from test_papers import COPY, LATE, NOTHING, ring_machine, ring_plan, some_tasks, some_told
+from things import A, YES, Numbers, chain, odd, some_machine, some_plan, wrong_tasks
 from wishkeep.checker import shows_machine, shows_plan
 from wishkeep.errors import BadMachine, BadPlan, BadTask, TooGreat
-from wishkeep.keeper import told
 from wishkeep.papers import machine_papers, plan_papers
 from wishkeep.reading import task_of
 from wishkeep.tasks import looks_of
@@ -112,18 +111,11 @@ class Papers(Checks):
         self.assertGreater(min(seen.values()), 50)
 
     def test_of_what_is_told_of_a_task(self):
-        words = set()
-        for task in some_tasks(132, 120, 4):
-            try:
-                word, rooms = told(task)
-            except TooGreat:
-                continue
-            words.add(word)
+        for task, word, rooms in some_told(132, 120, 4):
             if word == "machine":
                 self.machine(task, rooms, machine_papers(task, rooms), True)
             else:
                 self.plan(task, rooms, plan_papers(task, rooms), True)
-        self.assertEqual(words, {"machine", "plan"})
 
     def test_with_pairs_and_rooms_that_are_not_come_to(self):
         numbers = Numbers(133)
@@ -344,9 +336,7 @@ class Otherwise(Checks):
 
 class Refused(unittest.TestCase):
     def test_bad_tasks(self):
-        wrong = [((), ()), (SMALL, [("given", "always", A)]), ((("a",), ("a",)), ())]
-        wrong += [((("a",), ()), (("given", "always", X),)), (SMALL, (("wanted", "always", YES),) * 9)]
-        for thing in wrong + odd():
+        for thing in wrong_tasks():
             for show in (shows_machine, shows_plan):
                 for rooms in (COPY, ((0, (0, 0)),), None):
                     self.assertRaises(BadTask, show, thing, rooms, None)

@@ -4,7 +4,7 @@ import unittest
 from itertools import combinations
 
 from test_keeper import BOARDS, SMALL, task_by
-from things import A, X, YES, Numbers, chain, odd, some_task
+from things import A, X, Numbers, chain, some_task, wrong_tasks
 from wishkeep.arena import arena_of
 from wishkeep.cores import core
 from wishkeep.errors import BadTask, TooGreat
@@ -152,9 +152,7 @@ class Cores(unittest.TestCase):
 
 class Refused(unittest.TestCase):
     def test_bad_tasks(self):
-        wrong = [((), ()), (SMALL, [("given", "always", A)]), ((("a",), ("a",)), ())]
-        wrong += [((("a",), ()), (("given", "always", X),)), (SMALL, (("wanted", "always", YES),) * 9)]
-        for thing in wrong + odd():
+        for thing in wrong_tasks():
             self.assertRaises(BadTask, core, thing)
 
     def test_too_great(self):

@@ -4,7 +4,7 @@ import unittest
 from itertools import product
 
 from test_keeper import SMALL, plainly_keeps, task_by
-from things import A, X, YES, Numbers, chain, odd, some_task
+from things import A, Numbers, chain, odd, some_task, wrong_tasks
 from wishkeep.alike import merged
 from wishkeep.boards import letters_of
 from wishkeep.errors import BadNumber, BadTask, NoMachine, TooGreat
@@ -212,9 +212,7 @@ class Refused(unittest.TestCase):
     )
 
     def test_bad_tasks(self):
-        wrong = [((), ()), (SMALL, [("given", "always", A)]), ((("a",), ("a",)), ())]
-        wrong += [((("a",), ()), (("given", "always", X),)), (SMALL, (("wanted", "always", YES),) * 9)]
-        for thing in wrong + odd():
+        for thing in wrong_tasks():
             for most in (1, 8, 0, None, True):
                 self.assertRaises(BadTask, fewest, thing, most)
 

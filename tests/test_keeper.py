@@ -5,7 +5,7 @@ from itertools import product
 
 from plain import Moves, steps_of_machine, steps_of_plan
 from test_games import plainly_ours
-from things import A, NO, X, YES, Numbers, chain, odd, some_letters, some_task
+from things import A, NO, Numbers, chain, some_letters, some_task, wrong_tasks
 from wishkeep.alike import alike, merged
 from wishkeep.arena import arena_of
 from wishkeep.boards import letters_of
@@ -259,9 +259,7 @@ class Refused(unittest.TestCase):
             self.assertRaises(error, tell, task)
 
     def test_bad_tasks(self):
-        wrong = [((), ()), (SMALL, [("given", "always", A)]), ((("a",), ("a",)), ())]
-        wrong += [((("a",), ()), (("given", "always", X),)), (SMALL, (("wanted", "always", YES),) * 9)]
-        for thing in wrong + odd():
+        for thing in wrong_tasks():
             self.bad(BadTask, thing)
 
     def test_more_than_six_looks(self):

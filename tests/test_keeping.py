@@ -4,11 +4,11 @@ import unittest
 
 from plain import Moves, many_goals, steps_of_machine, steps_of_plan
 from test_keeper import BOARDS, SMALL, plainly_breaks, plainly_keeps, task_by
-from test_papers import COPY, LATE, NOTHING, ring_machine, ring_plan, some_tasks
-from things import A, X, YES, Numbers, chain, odd, some_letters, some_machine, some_plan
+from test_papers import COPY, LATE, NOTHING, ring_machine, ring_plan, some_tasks, some_told
+from things import A, YES, Numbers, chain, odd, some_letters, some_machine, some_plan, wrong_tasks
 from wishkeep.boards import letters_of
 from wishkeep.errors import BadMachine, BadPlan, BadTask, TooGreat
-from wishkeep.keeper import machine_for, plan_for, told
+from wishkeep.keeper import machine_for, plan_for
 from wishkeep.keeping import breaking, breaks, keeps, saving
 from wishkeep.machines import loop_by
 from wishkeep.meaning import is_kept
@@ -192,20 +192,13 @@ class Many(Checks):
         self.assertEqual(len(seen), 4, seen)
 
     def test_what_is_told(self):
-        words = set()
-        for task in some_tasks(143, 150, 4):
-            try:
-                word, rooms = told(task)
-            except TooGreat:
-                continue
-            words.add(word)
+        for task, word, rooms in some_told(143, 150, 4):
             if word == "machine":
                 self.machine(task, rooms, True)
                 self.machine(task, machine_for(task), True)
             else:
                 self.plan(task, rooms, True)
                 self.plan(task, plan_for(task), True)
-        self.assertEqual(words, {"machine", "plan"})
 
     def test_loops_by_what_wishes_mean(self):
         # No loop of a machine that keeps the task breaks it, and no loop of a plan by which it is broken keeps it.
@@ -260,9 +253,7 @@ class Refused(unittest.TestCase):
     FUNCTIONS = (keeps, breaking, breaks, saving)
 
     def test_bad_tasks(self):
-        wrong = [((), ()), (SMALL, [("given", "always", A)]), ((("a",), ("a",)), ())]
-        wrong += [((("a",), ()), (("given", "always", X),)), (SMALL, (("wanted", "always", YES),) * 9)]
-        for thing in wrong + odd():
+        for thing in wrong_tasks():
             for tell in self.FUNCTIONS:
                 for rooms in (COPY, ((0, (0, 0)),), None):
                     self.assertRaises(BadTask, tell, thing, rooms)

@@ -4,7 +4,7 @@ import unittest
 
 from plain import Moves, plainly_shows_machine, plainly_shows_plan, steps_of_machine, steps_of_plan
 from test_keeper import BOARDS, SMALL, plainly_breaks, plainly_keeps, task_by
-from things import A, X, YES, Numbers, chain, odd, some_machine, some_plan, some_task
+from things import A, YES, Numbers, chain, odd, some_machine, some_plan, some_task, wrong_tasks
 from wishkeep.errors import BadMachine, BadPlan, BadTask, TooGreat
 from wishkeep.keeper import told
 from wishkeep.machines import is_machine
@@ -38,6 +38,18 @@ def some_tasks(seed, many, deep):
         if len(looks_of(task)) <= 6:
             tasks.append(task)
     return tasks
+
+
+def some_told(seed, many, deep):
+    """Some tasks with what is told of each: machines, and plans."""
+    found = []
+    for task in some_tasks(seed, many, deep):
+        try:
+            found.append((task,) + told(task))
+        except TooGreat:
+            pass
+    assert {word for _, word, _ in found} == {"machine", "plan"}
+    return found
 
 
 class Pairs(unittest.TestCase):
@@ -200,18 +212,11 @@ class Papers(unittest.TestCase):
         self.assertGreater(min(seen.values()), 60, seen)
 
     def test_what_is_told_has_one(self):
-        words = set()
-        for task in some_tasks(125, 150, 4):
-            try:
-                word, rooms = told(task)
-            except TooGreat:
-                continue
-            words.add(word)
+        for task, word, rooms in some_told(125, 150, 4):
             if word == "machine":
                 self.check_machine(task, rooms, True)
             else:
                 self.check_plan(task, rooms, True)
-        self.assertEqual(words, {"machine", "plan"})
 
     def test_many_rooms_one_behind_the_other(self):
         task = (NOTHING, (("wanted", "again", YES), ("given", "again", YES)))
@@ -231,9 +236,7 @@ class Papers(unittest.TestCase):
 
 class Refused(unittest.TestCase):
     def test_bad_tasks(self):
-        wrong = [((), ()), (SMALL, [("given", "always", A)]), ((("a",), ("a",)), ())]
-        wrong += [((("a",), ()), (("given", "always", X),)), (SMALL, (("wanted", "always", YES),) * 9)]
-        for thing in wrong + odd():
+        for thing in wrong_tasks():
             for tell in (pairs_of, pairs_by, machine_papers, plan_papers):
                 for rooms in (COPY, ((0, (0, 0)),), None, ()):
                     self.assertRaises(BadTask, tell, thing, rooms)

@@ -3,7 +3,7 @@
 import unittest
 
 from test_keeper import BOARDS, SMALL, task_by
-from things import A, X, YES, Numbers, chain, odd, some_letters, some_task, wrong_numbers
+from things import A, Numbers, chain, odd, some_letters, some_task, wrong_numbers, wrong_tasks
 from wishkeep.boards import letters_of
 from wishkeep.errors import BadLetter, BadTask, TooGreat
 from wishkeep.keeper import told
@@ -185,10 +185,7 @@ class Refused(Checks):
             self.same(play, plain)
 
     def test_bad_tasks(self):
-        wrong = [((), ()), (SMALL, [("given", "always", A)]), ((("a",), ("a",)), ())]
-        wrong += [((("a",), ()), (("given", "always", X),)), (SMALL, (("wanted", "always", YES),) * 9)]
-        wrong.append((SMALL, (("wanted", "always", chain("before", 8, A)), ("wanted", "always", None))))
-        for thing in wrong + odd():
+        for thing in wrong_tasks():
             self.assertRaises(BadTask, Play, thing)
 
     def test_too_great(self):

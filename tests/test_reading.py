@@ -298,7 +298,8 @@ class TasksRead(Reading):
             for answers in range(4):
                 board = (("c", "a", "b")[:comes], ("z", "x", "y")[:answers])
                 self.assertEqual(task_of(task_text((board, ()))), (board, ()))
-                self.assertEqual(task_of(task_text((board, (("given", "again", NO),)))), (board, (("given", "again", NO),)))
+                task = (board, (("given", "again", NO),))
+                self.assertEqual(task_of(task_text(task)), task)
 
     def test_blanks_more(self):
         self.assertEqual(task_of(

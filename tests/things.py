@@ -221,3 +221,13 @@ X = ("sign", "x")
 Y = ("sign", "y")
 YES = ("yes",)
 NO = ("no",)
+
+
+def wrong_tasks():
+    """Things that are no tasks."""
+    board = (("a",), ("x",))
+    wrong = [((), ()), (board, [("given", "always", A)]), ((("a",), ("a",)), ())]
+    wrong += [((("a",), ()), (("given", "always", X),)), (board, (("wanted", "always", YES),) * 9)]
+    # Too many looks are told of a task alone.
+    wrong.append((board, (("wanted", "always", chain("before", 8, A)), ("wanted", "always", None))))
+    return wrong + odd()
